@@ -1,0 +1,1 @@
+"""Repeatnets: nets repeated in all directions."""
