@@ -24,12 +24,13 @@ def cleared(rows):
     for top in range(len(rows)):
         lead = first_filled(table[top])
         if lead is not None:
+            if table[top][lead] < 0:
+                table[top] = [-number for number in table[top]]
             table = with_lead(table, top, lead, scale)
             scale = table[top][lead]
             leads.append(lead)
             kept.append(top)
-    sign = 1 if scale > 0 else -1
-    return scale * sign, leads, [[number * sign for number in table[top]] for top in kept]
+    return scale, leads, [table[top] for top in kept]
 
 
 def first_filled(row):
@@ -44,12 +45,22 @@ def with_lead(rows, top, lead, scale):
     """The rows with the lead column taken out of all of them but the top one."""
     chosen = rows[top]
     pivot = chosen[lead]
-    others = []
-    for row in rows:
-        factor = row[lead]
-        others.append([(pivot * number - factor * over) // scale for number, over in zip(row, chosen)])
+    if pivot == scale:
+        filled = [(column, over) for column, over in enumerate(chosen) if over != 0]
+        others = [less(row, row[lead], filled, scale) for row in rows]
+    else:
+        others = [[(pivot * number - row[lead] * over) // scale for number, over in zip(row, chosen)] for row in rows]
     others[top] = chosen
     return others
+
+
+def less(row, factor, filled, scale):
+    """The row less some times another one, whose columns that are not nought are told: few in wide tables."""
+    numbers = list(row)
+    if factor != 0:
+        for column, over in filled:
+            numbers[column] -= factor * over // scale
+    return numbers
 
 
 class Cone:

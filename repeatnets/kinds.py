@@ -31,3 +31,13 @@ def is_key(thing, table):
 def are_whole(thing, many):
     """Whether a thing is a list of so many integers."""
     return is_list(thing) and len(thing) == many and all([is_whole(number) for number in thing])
+
+
+def are_counts(thing, many):
+    """Whether a thing is a list of so many integers from 1 on."""
+    return are_whole(thing, many) and all([number >= 1 for number in thing])
+
+
+def is_order(thing, many):
+    """Whether a thing is a list of all integers from 0 to less than many, each once."""
+    return are_whole(thing, many) and sorted(thing) == list(range(many))

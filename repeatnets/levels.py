@@ -1,7 +1,8 @@
 """Levels: directions and heights, level below level, which show that no way comes back; and ranks by them."""
 
 from repeatnets.apart import first_core, pieces_of
-from repeatnets.errors import BadLevels, BadPlace, NoRoom
+from repeatnets.checks import ask_place, ask_room
+from repeatnets.errors import BadLevels
 from repeatnets.kinds import are_whole, is_list
 from repeatnets.parts import parts_along
 from repeatnets.slopes import along, rises_by, slope_of
@@ -77,10 +78,8 @@ def rank(net, levels, room, place):
     """The rank of a hall by levels of the net: a list of integers that ascends along each tie."""
     if not is_levels(net, levels):
         raise BadLevels(levels)
-    if room not in net.rooms():
-        raise NoRoom(room)
-    if not are_whole(place, net.axes):
-        raise BadPlace(place)
+    ask_room(net, room)
+    ask_place(net, place)
     ties = net.ties()
     told = [groups_ahead(net.rooms(), ties, room)]
     level = level_with(levels, room)

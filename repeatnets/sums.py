@@ -70,10 +70,15 @@ def walked(net, thing):
     """A closed way whose ties stand as often as a round tells."""
     if not is_round(net, thing) or length_of(thing) > MOST_WALKED:
         raise BadRound(thing)
-    ties = [net.tie(name) for name in thing]
+    return way_of(net, thing)
+
+
+def way_of(net, counts):
+    """A closed way whose ties stand as often as a round tells, however many they are."""
+    ties = [net.tie(name) for name in counts]
     leaving = {tie[1]: [] for tie in ties}
     for name, start, end, _ in ties:
-        leaving[start].extend([(end, name) for _ in range(thing[name])])
+        leaving[start].extend([(end, name) for _ in range(counts[name])])
     return walked_along(leaving, ties[0][1])
 
 

@@ -1,6 +1,6 @@
 """What the tests share: checks by the sums that the document writes out, apart from the package's own ones.
 
-Nets are told here as raw triples (axes, rooms, ties); nothing but Net itself is imported from the package.
+Nets are told here as raw triples (axes, rooms, ties); nothing but classes is imported from the package.
 """
 
 import itertools
@@ -8,6 +8,7 @@ import random
 
 from repeatnets.errors import BadAxes
 from repeatnets.nets import Net
+from repeatnets.turns import Turns
 
 
 def any_objects():
@@ -17,7 +18,9 @@ def any_objects():
         [[]], [()], [None], [[None, [True]]], ["e"], ("e",), [["e"]], [1], [1, 2], (0, 0), ["a", "a"], [True], ["a", 1],
         {"e": 1}, {"a": []}, {1: 2}, {("a",): None}, [{"e": 1}], ("e", "a", "a", [0]),
         [(["a"], [1], [0], [])], [([], [], [], [])], Net(0, ["a"], []), [Net(1, ["a"], [("e", "a", "a", [1])])],
-        BadAxes(1),
+        BadAxes(1), 40, 41, -7, (1,), [0], [-1], [0, 1], [1, 0], [1, -1], [True, False], [[1, 0], [0, 1]], [[True]],
+        [[1], [2]], (0, 1, 0), [(0, 1, 0), (1, 1, 0)], [((0, 1, 0), (1, 1, 0))], (("a", ()), ["e"]), (("a", (0,)), ["e"]),
+        [((0, 0), (0, 1, 0))], ((1,), []), Turns(1, 1, []), [Turns(2, 1, [((0, 1, 0), (1, -1, 0))])],
     ]
 
 

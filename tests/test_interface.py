@@ -3,7 +3,7 @@
 import inspect
 import unittest
 
-from repeatnets import levels, nets, sums
+from repeatnets import boxes, changes, cuts, levels, nets, sums, turns
 
 FUNCTIONS = [
     (nets, "is_way", ["net", "thing"]),
@@ -12,12 +12,25 @@ FUNCTIONS = [
     (sums, "least_way", ["net", "most"]),
     (levels, "levels_of", ["net"]), (levels, "is_levels", ["net", "thing"]), (levels, "parts_of", ["net"]),
     (levels, "depth", ["net"]), (levels, "rank", ["net", "levels", "room", "place"]),
+    (changes, "turned", ["net", "matrix"]), (changes, "flat", ["net", "axis"]),
+    (changes, "shifted", ["net", "room", "place"]), (changes, "wider", ["net", "axis", "size"]),
+    (changes, "bent", ["net", "axis", "size"]), (changes, "alike", ["one", "other"]),
+    (boxes, "box_way", ["net", "sizes"]), (boxes, "is_box_way", ["net", "sizes", "thing"]),
+    (boxes, "longest_way", ["net", "sizes"]), (boxes, "boxed", ["net", "axis", "size"]), (boxes, "least_boxes", ["net"]),
+    (cuts, "cuts", ["net", "names"]), (cuts, "vital", ["net"]),
+    (turns, "straight", ["axes", "kinds"]), (turns, "quarter", ["axes", "kinds"]), (turns, "around", ["axes", "kinds"]),
+    (turns, "rising", ["axes", "kinds"]), (turns, "level", ["axes", "kinds"]),
+    (turns, "ordered", ["axes", "kinds", "order"]), (turns, "as_seen", ["one", "other"]),
 ]
-METHODS = [
+METHODS = {nets.Net: [
     ("__init__", ["axes", "rooms", "ties"]), ("rooms", []), ("ties", []), ("tie", ["name"]), ("without", ["names"]),
     ("only", ["names"]), ("more", ["ties"]), ("__len__", []), ("__contains__", None), ("__eq__", None),
     ("__or__", None), ("__invert__", []),
-]
+], turns.Turns: [
+    ("__init__", ["axes", "kinds", "pairs"]), ("pairs", []), ("net", []), ("jam", []), ("is_jam", ["sizes", "thing"]),
+    ("bars", ["pairs"]), ("seen", ["axes", "signs", "kinds"]), ("__len__", []), ("__contains__", None), ("__eq__", None),
+    ("__or__", None), ("__and__", None), ("__sub__", None), ("__invert__", []),
+]}
 
 
 class TestInterface(unittest.TestCase):
@@ -28,11 +41,12 @@ class TestInterface(unittest.TestCase):
             self.assertEqual(list(inspect.signature(found).parameters), parameters)
 
     def test_methods_stand_in_the_class_itself(self):
-        self.assertEqual(nets.Net.__module__, "repeatnets.nets")
-        for name, parameters in METHODS:
-            self.assertIn(name, vars(nets.Net))
-            if parameters is not None:
-                self.assertEqual(list(inspect.signature(vars(nets.Net)[name]).parameters)[1:], parameters)
+        for made, methods in METHODS.items():
+            self.assertEqual(made.__module__, {"Net": "repeatnets.nets", "Turns": "repeatnets.turns"}[made.__name__])
+            for name, parameters in methods:
+                self.assertIn(name, vars(made))
+                if parameters is not None:
+                    self.assertEqual(list(inspect.signature(vars(made)[name]).parameters)[1:], parameters)
 
 
 if __name__ == "__main__":

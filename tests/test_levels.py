@@ -3,8 +3,8 @@
 import itertools
 import unittest
 
-from helpers import (any_objects, depth_of_levels, leads, levels_hold, make, parts_by_hand, raises, rises_by_hand,
-                     small_nets, sums_by_search)
+from helpers import (any_objects, depth_of_levels, is_plain_int, leads, levels_hold, make, parts_by_hand, raises,
+                     rises_by_hand, small_nets, sums_by_search)
 from repeatnets.errors import BadLevels, BadPlace, NoRoom
 from repeatnets.levels import depth, is_levels, levels_of, parts_of, rank
 from repeatnets.nets import Net
@@ -178,8 +178,8 @@ class TestAreLevels(unittest.TestCase):
                 level = list(good[0])
                 level[at] = thing
                 told = [["a"], [1], [0], []][at]
-                fits = (type(thing) in (list, tuple) and (list(thing) == told or at == 2 and thing == [1])
-                        and not any(type(one) is bool for one in thing))
+                fits = (type(thing) in (list, tuple) and not any(type(one) is bool for one in thing)
+                        and (list(thing) == told or at == 2 and len(thing) == 1 and is_plain_int(thing[0])))
                 self.assertIs(is_levels(net, [level]), fits, (at, thing))
             self.assertIs(is_levels(net, [([thing], [1], [0], [])]), thing == "a")
             self.assertIs(is_levels(net, [(["a"], [thing], [0], [])]), type(thing) is int and thing > 0)
@@ -355,7 +355,7 @@ class TestRank(unittest.TestCase):
                 raises(self, BadLevels, [("thing", thing)], lambda: rank(net, thing, "a", [1]))
             if thing != "a":
                 raises(self, NoRoom, [("name", thing)], lambda: rank(net, good, thing, [1]))
-            if type(thing) is list and len(thing) == 1 and type(thing[0]) is int:
+            if type(thing) in (list, tuple) and len(thing) == 1 and is_plain_int(thing[0]):
                 self.assertEqual(rank(net, good, "a", thing), [0, thing[0], 0])
             else:
                 raises(self, BadPlace, [("thing", thing)], lambda: rank(net, good, "a", thing))

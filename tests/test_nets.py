@@ -2,7 +2,7 @@
 
 import unittest
 
-from helpers import any_objects, make, raises, small_nets, way_holds, ways_by_search
+from helpers import any_objects, is_plain_int, make, raises, small_nets, way_holds, ways_by_search
 from repeatnets.errors import BadAxes, BadRooms, BadTie, NoTie, TieTaken, UnlikeAxes
 from repeatnets.nets import Net, is_way
 
@@ -109,7 +109,7 @@ class TestBadNets(unittest.TestCase):
                 raises(self, BadTie, [("index", 0)], lambda: Net(1, ["a"], [("x", "a", thing, [1])]))
             if thing not in ("a", "e", "zz", "a.0"):
                 raises(self, BadTie, [("index", 0)], lambda: Net(1, ["a"], [(thing, "a", "a", [1])]))
-            if thing not in ([1], [True]):
+            if type(thing) not in (list, tuple) or len(thing) != 1 or not is_plain_int(thing[0]):
                 raises(self, BadTie, [("index", 0)], lambda: Net(1, ["a"], [("x", "a", "a", thing)]))
             if type(thing) is not int:
                 raises(self, BadTie, [("index", 0)], lambda: Net(1, ["a"], [("x", "a", "a", [thing])]))
