@@ -56,10 +56,11 @@ def with_lead(rows, top, lead, scale):
 
 def less(row, factor, filled, scale):
     """The row less some times another one, whose columns that are not nought are told: few in wide tables."""
+    if factor == 0:
+        return row
     numbers = list(row)
-    if factor != 0:
-        for column, over in filled:
-            numbers[column] -= factor * over // scale
+    for column, over in filled:
+        numbers[column] -= factor * over // scale
     return numbers
 
 
@@ -97,10 +98,8 @@ class Cone:
     def slack(self, wanted):
         """For each free column what it takes from the sum of the wanted counts, times the scale."""
         rows = [row for column, row in zip(self.settled, self.table) if column in wanted]
-        told = []
-        for at, column in enumerate(self.spare):
-            told.append(sum([row[at] for row in rows]) - self.scale * int(column in wanted))
-        return told
+        taken = [sum(numbers) for numbers in zip(*rows)] if rows else [0 for _ in self.spare]
+        return [loss - self.scale * int(column in wanted) for column, loss in zip(self.spare, taken)]
 
     def entering(self, wanted):
         """Where the first column stands among the free ones by which the wanted counts grow, None if by none.
@@ -119,7 +118,8 @@ class Cone:
         """Settle a free column by a row, whose settled one is free then."""
         factors = [row[column] for row in self.table]
         rows = with_lead(self.table, at, column, self.scale)
-        self.table = [row[:column] + [-factor] + row[column + 1:] for row, factor in zip(rows, factors)]
+        self.table = [row[:column] + [-factor] + row[column + 1:] if factor else row
+                      for row, factor in zip(rows, factors)]
         self.table[at][column] = self.scale
         self.scale = factors[at]
         self.settled[at], self.spare[column] = self.spare[column], self.settled[at]
