@@ -1,7 +1,7 @@
 """What several functions ask of their arguments ahead of all else."""
 
 from repeatnets.errors import BadNumber, BadPlace, BadSizes, NoAxis, NoRoom
-from repeatnets.kinds import are_counts, are_whole, is_whole
+from repeatnets.kinds import are_counts, are_whole, is_between
 
 MOST_CELLS = 40
 
@@ -20,13 +20,13 @@ def ask_place(net, place):
 
 def ask_axis(net, axis):
     """Raise NoAxis unless this is an axis of the net."""
-    if not is_whole(axis) or axis < 0 or axis >= net.axes:
+    if not is_between(axis, 0, net.axes - 1):
         raise NoAxis(axis)
 
 
 def ask_cells(number):
     """Raise BadNumber unless so many old cells can make up a new one."""
-    if not is_whole(number) or number < 1 or number > MOST_CELLS:
+    if not is_between(number, 1, MOST_CELLS):
         raise BadNumber(number)
 
 

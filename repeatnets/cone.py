@@ -2,6 +2,8 @@
 
 from math import gcd
 
+from repeatnets.slopes import along
+
 
 def shortened(numbers):
     """The list of integers, divided by what divides all of them."""
@@ -45,23 +47,9 @@ def with_lead(rows, top, lead, scale):
     """The rows with the lead column taken out of all of them but the top one."""
     chosen = rows[top]
     pivot = chosen[lead]
-    if pivot == scale:
-        filled = [(column, over) for column, over in enumerate(chosen) if over != 0]
-        others = [less(row, row[lead], filled, scale) for row in rows]
-    else:
-        others = [[(pivot * number - row[lead] * over) // scale for number, over in zip(row, chosen)] for row in rows]
+    others = [[(pivot * number - row[lead] * over) // scale for number, over in zip(row, chosen)] for row in rows]
     others[top] = chosen
     return others
-
-
-def less(row, factor, filled, scale):
-    """The row less some times another one, whose columns that are not nought are told: few in wide tables."""
-    if factor == 0:
-        return row
-    numbers = list(row)
-    for column, over in filled:
-        numbers[column] -= factor * over // scale
-    return numbers
 
 
 class Cone:
@@ -79,34 +67,35 @@ class Cone:
         self.spare = [column for column in range(many) if column not in leads]
         self.table = [[row[column] for column in self.spare] for row in solved]
 
-    def seek(self, wanted):
-        """Look for a solution in which one of the wanted columns, keys of a dict, has a count.
+    def seek(self, worth):
+        """Look for a solution whose counts, each times what its column is worth, sum to more than 0.
 
-        Returned is a pair: such a solution, a dict from columns to counts from 1 on, and None; or None and
-        the list of integers, one for each column, none below 0 and those of the wanted ones above 0, which
-        some sum of multiples of the rows is: so no solution has a count at any of these.
+        worth is a list of integers, one for each column. Returned is a pair: such a solution, a dict from columns to
+        counts from 1 on, and None; or None and a pair of an integer from 1 on, times, and the list of integers,
+        none less than so many times the worth of its column, which some sum of multiples of the rows is: so no
+        solution is worth more than 0.
         """
-        column = self.entering(wanted)
+        column = self.entering(worth)
         while column is not None:
             row = self.leaving(column)
             if row is None:
                 return self.ray(column), None
             self.swap(row, column)
-            column = self.entering(wanted)
-        return None, self.bound(wanted)
+            column = self.entering(worth)
+        return None, self.bound(worth)
 
-    def slack(self, wanted):
-        """For each free column what it takes from the sum of the wanted counts, times the scale."""
-        rows = [row for column, row in zip(self.settled, self.table) if column in wanted]
-        taken = [sum(numbers) for numbers in zip(*rows)] if rows else [0 for _ in self.spare]
-        return [loss - self.scale * int(column in wanted) for column, loss in zip(self.spare, taken)]
+    def slack(self, worth):
+        """For each free column what it takes from what the counts are worth together, times the scale."""
+        weights = [worth[column] for column in self.settled]
+        return [along(weights, [row[at] for row in self.table]) - self.scale * worth[column]
+                for at, column in enumerate(self.spare)]
 
-    def entering(self, wanted):
-        """Where the first column stands among the free ones by which the wanted counts grow, None if by none.
+    def entering(self, worth):
+        """Where the first column stands among the free ones by which the worth grows, None if by none.
 
         The first one, here and in leaving, because then no table comes back (Bland's rule).
         """
-        growing = [(column, at) for at, (column, loss) in enumerate(zip(self.spare, self.slack(wanted))) if loss < 0]
+        growing = [(column, at) for at, (column, loss) in enumerate(zip(self.spare, self.slack(worth))) if loss < 0]
         return min(growing)[1] if growing else None
 
     def leaving(self, column):
@@ -118,8 +107,7 @@ class Cone:
         """Settle a free column by a row, whose settled one is free then."""
         factors = [row[column] for row in self.table]
         rows = with_lead(self.table, at, column, self.scale)
-        self.table = [row[:column] + [-factor] + row[column + 1:] if factor else row
-                      for row, factor in zip(rows, factors)]
+        self.table = [row[:column] + [-factor] + row[column + 1:] for row, factor in zip(rows, factors)]
         self.table[at][column] = self.scale
         self.scale = factors[at]
         self.settled[at], self.spare[column] = self.spare[column], self.settled[at]
@@ -130,9 +118,10 @@ class Cone:
         columns = [self.spare[column]] + self.settled
         return {name: count for name, count in zip(columns, counts) if count > 0}
 
-    def bound(self, wanted):
-        """The rises of all columns by which the wanted ones, none of which can grow, are nought."""
-        rises = [self.scale * int(column in wanted) for column in range(len(self.settled) + len(self.spare))]
-        for column, loss in zip(self.spare, self.slack(wanted)):
+    def bound(self, worth):
+        """The scale and the rises of all columns by which no count makes the worth greater, shortened together."""
+        rises = [self.scale * number for number in worth]
+        for column, loss in zip(self.spare, self.slack(worth)):
             rises[column] += loss
-        return shortened(rises)
+        numbers = shortened([self.scale] + rises)
+        return numbers[0], numbers[1:]

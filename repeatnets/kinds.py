@@ -8,6 +8,11 @@ def is_whole(thing):
     return isinstance(thing, int) and not isinstance(thing, bool)
 
 
+def is_between(thing, least, most):
+    """Whether a thing is an integer from the least to the most one."""
+    return is_whole(thing) and least <= thing <= most
+
+
 def is_count(thing):
     """Whether a thing is an integer from 1 on."""
     return is_whole(thing) and thing >= 1

@@ -3,17 +3,17 @@
 from itertools import permutations
 
 from repeatnets.errors import BadAxes, BadKinds
-from repeatnets.kinds import are_whole, is_list, is_whole
+from repeatnets.kinds import are_whole, is_between, is_list
 
-MOST_AXES = 3
+MOST_GRID_AXES = 3
 MOST_KINDS = 3
 
 
 def ask_grid(axes, kinds):
     """Raise BadAxes or BadKinds unless a grid can have so many axes and kinds."""
-    if not is_whole(axes) or axes < 1 or axes > MOST_AXES:
+    if not is_between(axes, 1, MOST_GRID_AXES):
         raise BadAxes(axes)
-    if not is_whole(kinds) or kinds < 1 or kinds > MOST_KINDS:
+    if not is_between(kinds, 1, MOST_KINDS):
         raise BadKinds(kinds)
 
 

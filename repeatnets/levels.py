@@ -5,7 +5,7 @@ from repeatnets.checks import ask_place, ask_room
 from repeatnets.errors import BadLevels
 from repeatnets.kinds import are_whole, is_list
 from repeatnets.parts import parts_along
-from repeatnets.slopes import along, rises_by, slope_of
+from repeatnets.slopes import along, rises_by
 
 
 def levels_of(net):
@@ -16,8 +16,7 @@ def levels_of(net):
 
 def level_of(piece):
     """A level of a piece in which just its loose ties rise."""
-    direction, heights = slope_of(piece.group, piece.links, piece.rises)
-    return list(piece.group), direction, heights, [level_of(inner) for inner in piece.within]
+    return list(piece.group), piece.direction, piece.heights, [level_of(inner) for inner in piece.within]
 
 
 def is_levels(net, thing):
@@ -60,7 +59,7 @@ def parts_of(net):
 
 def told_part(piece):
     """A piece as a tuple of its rooms, the names of its loose ties, and the pieces within, told likewise."""
-    return list(piece.group), piece.loose(), [told_part(inner) for inner in piece.within]
+    return list(piece.group), piece.loose, [told_part(inner) for inner in piece.within]
 
 
 def depth(net):

@@ -1,7 +1,7 @@
 """Nets: axes, rooms, and ties that lead from a room to a room so many steps away."""
 
 from repeatnets.errors import BadAxes, BadRooms, BadTie, NoTie, TieTaken, UnlikeAxes
-from repeatnets.kinds import are_whole, is_key, is_list, is_name, is_whole
+from repeatnets.kinds import are_whole, is_between, is_key, is_list, is_name
 
 MOST_AXES = 4
 
@@ -38,7 +38,7 @@ class Net:
     """A net: a number of axes, a list of rooms, and a list of ties (name, start, end, step)."""
 
     def __init__(self, axes, rooms, ties):
-        if not is_whole(axes) or axes < 0 or axes > MOST_AXES:
+        if not is_between(axes, 0, MOST_AXES):
             raise BadAxes(axes)
         if not are_rooms(rooms):
             raise BadRooms(rooms)

@@ -1,10 +1,11 @@
 """Rounds and balanced sums of ties, and the closed ways that they tell."""
 
-from repeatnets.apart import first_core, pieces_of, sum_through
+from repeatnets.apart import first_core, pieces_of
 from repeatnets.cone import shortened
 from repeatnets.errors import BadNumber, BadRound, NoTie
 from repeatnets.kinds import is_count
 from repeatnets.parts import hang_together
+from repeatnets.rings import Rings
 from repeatnets.spreads import Spread
 
 MOST_WALKED = 1000
@@ -63,7 +64,8 @@ def sum_with(net, name):
     """A balanced sum that has this tie, None if there is none."""
     if name not in net:
         raise NoTie(name)
-    return sum_through(net.axes, net.rooms(), net.ties(), name)
+    counts, _ = Rings(net.axes, net.rooms(), net.ties()).seek({name: 1})
+    return counts
 
 
 def walked(net, thing):

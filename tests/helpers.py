@@ -6,6 +6,7 @@ Nets are told here as raw triples (axes, rooms, ties); nothing but classes is im
 import itertools
 import random
 
+from repeatnets.desks import Desk
 from repeatnets.errors import BadAxes
 from repeatnets.nets import Net
 from repeatnets.turns import Turns
@@ -21,6 +22,7 @@ def any_objects():
         BadAxes(1), 40, 41, -7, (1,), [0], [-1], [0, 1], [1, 0], [1, -1], [True, False], [[1, 0], [0, 1]], [[True]],
         [[1], [2]], (0, 1, 0), [(0, 1, 0), (1, 1, 0)], [((0, 1, 0), (1, 1, 0))], (("a", ()), ["e"]), (("a", (0,)), ["e"]),
         [((0, 0), (0, 1, 0))], ((1,), []), Turns(1, 1, []), [Turns(2, 1, [((0, 1, 0), (1, -1, 0))])],
+        Desk(Net(0, ["a"], [])), [("cut", "e")], "net 0\nroom a", ((0, 1), []), ((0, 1), [(1, [0], [0])]),
     ]
 
 

@@ -19,10 +19,11 @@ BARRED = set("""register mro elements open input law version_info with_traceback
     methodcaller os quit setattr type vars sys typing typing_extensions enum Enum IntEnum StrEnum Flag IntFlag Generic
     Protocol ABC ABCMeta namedtuple NamedTuple TypedDict TYPE_CHECKING abstractmethod""".split())
 BARRED_STATEMENTS = (ast.Global, ast.AsyncFunctionDef, ast.AsyncFor, ast.AsyncWith, ast.Await, ast.GeneratorExp,
-                     ast.Import, ast.Div, ast.Yield, ast.YieldFrom, ast.Lambda, ast.Try, ast.SetComp, ast.Set)
+                     ast.Import, ast.Div, ast.Yield, ast.YieldFrom, ast.Lambda, ast.ExceptHandler, ast.SetComp,
+                     ast.Set)
 METHODS = set("""append clear copy count endswith extend find get index insert isalnum isalpha isdigit islower isspace
     isupper items join keys ljust lower lstrip partition pop remove replace reverse rfind rjust rpartition rsplit rstrip
-    setdefault split splitlines startswith strip update upper values zfill bit_length""".split())
+    setdefault split splitlines startswith strip update upper values zfill bit_length removeprefix""".split())
 
 
 def files():
@@ -119,6 +120,24 @@ class TestLanguage(unittest.TestCase):
                     for sign, side in zip(node.ops, node.comparators):
                         if isinstance(sign, (ast.Is, ast.IsNot)):
                             self.assertIsInstance(side, ast.Constant, name)
+
+    def test_finally_only_puts_back(self):
+        for name, tree in self.trees():
+            for node in [node for node in ast.walk(tree) if isinstance(node, ast.Try)]:
+                self.assertEqual([node.handlers, node.orelse], [[], []], name)
+                for row in node.finalbody:
+                    self.assertIsInstance(row, ast.Assign, name)
+                    self.assertIsInstance(row.value, ast.Name, name)
+
+    def test_tables_of_a_module_are_only_read(self):
+        for name, tree in self.trees():
+            tables = [target.id for node in tree.body if isinstance(node, ast.Assign) for target in node.targets
+                      if not isinstance(node.value, ast.Constant)]
+            read = [node.value for node in ast.walk(tree) if isinstance(node, ast.Subscript)]
+            read += [side for node in ast.walk(tree) if isinstance(node, ast.Compare) for side in node.comparators]
+            for node in ast.walk(tree):
+                if isinstance(node, ast.Name) and isinstance(node.ctx, ast.Load) and node.id in tables:
+                    self.assertTrue(any(node is one for one in read), (name, node.id))
 
     def test_names(self):
         for name, tree in self.trees():
