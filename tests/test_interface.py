@@ -3,7 +3,7 @@
 import inspect
 import unittest
 
-from repeatnets import boxes, changes, cuts, levels, nets, sums, turns
+from repeatnets import boxes, changes, costs, cuts, desks, directions, levels, nets, sums, texts, turns
 
 FUNCTIONS = [
     (nets, "is_way", ["net", "thing"]),
@@ -21,6 +21,12 @@ FUNCTIONS = [
     (turns, "straight", ["axes", "kinds"]), (turns, "quarter", ["axes", "kinds"]), (turns, "around", ["axes", "kinds"]),
     (turns, "rising", ["axes", "kinds"]), (turns, "level", ["axes", "kinds"]),
     (turns, "ordered", ["axes", "kinds", "order"]), (turns, "as_seen", ["one", "other"]),
+    (texts, "write", ["thing"]), (texts, "read", ["text"]),
+    (directions, "heights", ["net", "direction"]), (directions, "falling", ["net", "direction"]),
+    (directions, "is_falling", ["net", "direction", "thing"]),
+    (costs, "cores", ["net"]), (costs, "cheapest", ["net", "costs"]), (costs, "cheap_sum", ["net", "costs"]),
+    (costs, "cheap_round", ["net", "costs"]), (costs, "cheaper", ["net", "costs", "above", "below"]),
+    (costs, "price", ["net", "costs"]), (costs, "is_price", ["net", "costs", "thing"]),
 ]
 METHODS = {nets.Net: [
     ("__init__", ["axes", "rooms", "ties"]), ("rooms", []), ("ties", []), ("tie", ["name"]), ("without", ["names"]),
@@ -30,7 +36,12 @@ METHODS = {nets.Net: [
     ("__init__", ["axes", "kinds", "pairs"]), ("pairs", []), ("net", []), ("jam", []), ("is_jam", ["sizes", "thing"]),
     ("bars", ["pairs"]), ("seen", ["axes", "signs", "kinds"]), ("__len__", []), ("__contains__", None), ("__eq__", None),
     ("__or__", None), ("__and__", None), ("__sub__", None), ("__invert__", []),
+], desks.Desk: [
+    ("__init__", ["net"]), ("net", []), ("room", ["name"]), ("tie", ["name", "start", "end", "step"]), ("cut", ["name"]),
+    ("move", ["room", "place"]), ("is_closed", []), ("since", []), ("would", ["deeds"]), ("undo", []), ("again", []),
+    ("copy", []), ("trial", ["work"]),
 ]}
+HOMES = {"Net": "repeatnets.nets", "Turns": "repeatnets.turns", "Desk": "repeatnets.desks"}
 
 
 class TestInterface(unittest.TestCase):
@@ -42,7 +53,7 @@ class TestInterface(unittest.TestCase):
 
     def test_methods_stand_in_the_class_itself(self):
         for made, methods in METHODS.items():
-            self.assertEqual(made.__module__, {"Net": "repeatnets.nets", "Turns": "repeatnets.turns"}[made.__name__])
+            self.assertEqual(made.__module__, HOMES[made.__name__])
             for name, parameters in methods:
                 self.assertIn(name, vars(made))
                 if parameters is not None:

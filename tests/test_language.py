@@ -7,6 +7,7 @@ import unittest
 import warnings
 
 FOLDER = pathlib.Path(__file__).resolve().parent.parent / "repeatnets"
+BUILTINS = set(dir(builtins)) - {"_"}
 LIBRARY = {"heapq": {"heappush", "heappop", "heapify", "heapreplace", "heappushpop"},
            "math": {"gcd", "lcm", "isqrt", "comb", "perm", "factorial"},
            "itertools": {"product", "combinations", "permutations"}}
@@ -145,16 +146,16 @@ class TestLanguage(unittest.TestCase):
             for node in ast.walk(tree):
                 if isinstance(node, ast.Name):
                     self.assertNotIn(node.id, BARRED, name)
-                    if isinstance(node.ctx, ast.Load) and hasattr(builtins, node.id):
+                    if isinstance(node.ctx, ast.Load) and node.id in BUILTINS:
                         self.assertIn(node.id, ALLOWED, name)
                 if isinstance(node, ast.FunctionDef) and id(node) in methods:
                     continue
                 if isinstance(node, (ast.FunctionDef, ast.ClassDef)):
-                    self.assertFalse(hasattr(builtins, node.name), (name, node.name))
+                    self.assertFalse(node.name in BUILTINS, (name, node.name))
                 if isinstance(node, ast.arg):
-                    self.assertFalse(hasattr(builtins, node.arg), (name, node.arg))
+                    self.assertFalse(node.arg in BUILTINS, (name, node.arg))
                 if isinstance(node, ast.Name) and isinstance(node.ctx, ast.Store):
-                    self.assertFalse(hasattr(builtins, node.id), (name, node.id))
+                    self.assertFalse(node.id in BUILTINS, (name, node.id))
 
     def test_no_local_name_is_that_of_a_class_or_an_import(self):
         for name, tree in self.trees():
