@@ -7,8 +7,8 @@ from repeatnets.rings import Rings
 class Piece:
     """A part: its rooms and ties, balanced sums that have all ties that any has, and the pieces of these ties.
 
-    By its direction and heights just the others, the loose ones, rise. If no tie is loose the part is a core: it
-    closes, and it has no pieces, as they would be the part itself again.
+    By its slope (times, direction, heights) just the others, the loose ones, rise. If no tie is loose the part is a
+    core: it closes, and it has neither a slope nor pieces, as they would be the part itself again.
     """
 
     def __init__(self, axes, group, ties):
@@ -16,8 +16,7 @@ class Piece:
         self.links = ties
         self.rings = Rings(axes, group, ties)
         self.sums = []
-        self.direction = [0 for _ in range(axes)]
-        self.heights = [0 for _ in group]
+        self.slope = None
         self.within = []
         self.loose = self.left_over()
         if self.loose:
@@ -28,9 +27,8 @@ class Piece:
         """Find the sums, and the slope by which the ties that they leave over rise; the names of these, in order."""
         left = {tie[0]: 1 for tie in self.links}
         while left:
-            counts, slope = self.rings.seek(left)
+            counts, self.slope = self.rings.seek(left)
             if counts is None:
-                _, self.direction, self.heights = slope
                 return list(left)
             self.sums.append(counts)
             left = {name: 1 for name in left if name not in counts}

@@ -51,9 +51,11 @@ class Desk:
 
     def _go_on(self, net):
         """Do a deed behind which the net is this one: what was taken back can not be done again."""
-        self._stands = self._stands[:self._done + 1] + (Stand(net),)
+        stand = Stand(net)
+        told = stand.closing()
+        self._stands = self._stands[:self._done + 1] + (stand,)
         self._done += 1
-        return self.is_closed()
+        return told
 
     def is_closed(self):
         """Whether the net closes as it is."""

@@ -16,7 +16,8 @@ def levels_of(net):
 
 def level_of(piece):
     """A level of a piece in which just its loose ties rise."""
-    return list(piece.group), piece.direction, piece.heights, [level_of(inner) for inner in piece.within]
+    _, direction, heights = piece.slope
+    return list(piece.group), direction, heights, [level_of(inner) for inner in piece.within]
 
 
 def is_levels(net, thing):

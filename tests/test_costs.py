@@ -155,6 +155,15 @@ class TestMeans(unittest.TestCase):
         for costs in ({}, {"s": -1, "t": 1}, {"s": -4, "t": 3}, {"u": 1, "d": 2, "s": 1, "t": 2}):
             self.assertEqual(self.check(APART, costs), "round")
 
+    def test_two_rings_apart_in_a_later_core(self):
+        near = [("p", "c", "c", [0]), ("q", "c", "d", [2]), ("r", "d", "c", [-2])]
+        for ties in (near + APART[2], APART[2] + near):
+            for rooms in (["c", "d", "a", "b"], ["a", "b", "c", "d"], ["a", "c", "d", "b"]):
+                raw = (1, rooms, ties)
+                self.assertEqual(self.check(raw, {"s": 3, "p": 2, "q": 1}), "sum")
+                self.assertEqual(self.check(raw, {"s": 3, "p": 2, "q": -1}), "round")
+                self.assertEqual(cheap_sum(make(raw), {"s": 3, "p": 2, "q": 1}), {"u": 1, "d": 1})
+
     def test_lowest_terms_and_signs(self):
         for reach in (0, 1, 6, -6, 10 ** 12 - 1, 1 - 10 ** 12):
             for name, times in (("e", 2), ("n", 1), ("b", 1)):
