@@ -2,7 +2,7 @@
 
 from repeatnets.checks import ask_place
 from repeatnets.climbs import Climb
-from repeatnets.kinds import is_list
+from repeatnets.nets import ties_around
 from repeatnets.slopes import along
 
 
@@ -27,11 +27,7 @@ def climb_by(net, direction):
 def is_falling(net, direction, thing):
     """Whether a thing is a ring that falls by the direction."""
     ask_place(net, direction)
-    if not is_list(thing) or len(thing) == 0 or not all([name in net for name in thing]):
-        return False
-    ties = [net.tie(name) for name in thing]
-    if not all([tie[2] == behind[1] for tie, behind in zip(ties, ties[1:] + ties[:1])]):
-        return False
-    if len({tie[1]: True for tie in ties}) < len(ties):
+    ties = ties_around(net, thing)
+    if ties is None or len({tie[1]: True for tie in ties}) < len(ties):
         return False
     return sum([along(direction, tie[3]) for tie in ties]) < 0

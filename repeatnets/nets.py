@@ -115,11 +115,18 @@ class Net:
         return Net(self.axes, self._rooms, backward)
 
 
+def ties_around(net, thing):
+    """The ties that a list of one or more names tells, each of which leads on to the next, the last one to the first.
+
+    None for any other thing.
+    """
+    if not is_list(thing) or len(thing) == 0 or not all([name in net for name in thing]):
+        return None
+    ties = [net.tie(name) for name in thing]
+    return ties if all([tie[2] == behind[1] for tie, behind in zip(ties, ties[1:] + ties[:1])]) else None
+
+
 def is_way(net, thing):
     """Whether a thing is a closed way of the net: a list of names of ties that leads from a hall back to this hall."""
-    if not is_list(thing) or len(thing) == 0 or not all([name in net for name in thing]):
-        return False
-    ties = [net.tie(name) for name in thing]
-    if not all([tie[2] == behind[1] for tie, behind in zip(ties, ties[1:] + ties[:1])]):
-        return False
-    return all([sum([tie[3][axis] for tie in ties]) == 0 for axis in range(net.axes)])
+    ties = ties_around(net, thing)
+    return ties is not None and all([sum([tie[3][axis] for tie in ties]) == 0 for axis in range(net.axes)])
