@@ -127,7 +127,7 @@ class TestHeights(unittest.TestCase):
         ties = [("x", "a", "b", [-2]), ("y", "b", "c", [-3]), ("w", "a", "c", [-4]), ("o", "c", "c", [0]), ("u", "d", "c", [9])]
         net = Net(1, ["a", "b", "c", "d"], ties)
         self.assertEqual(heights(net, [1]), [0, 2, 5, 0])
-        self.assertEqual(heights(net=net, direction=(-1,)), [0, 0, 9, 0])
+        self.assertEqual(heights(direction=(-1,), net=net), [0, 0, 9, 0])
         self.assertEqual(heights(net, [2]), [0, 4, 10, 0])
         self.assertEqual(heights(~net, [1]), [0, 0, 0, 9])
         self.assertEqual(heights(~net, [-1]), [5, 3, 0, 0])
@@ -145,7 +145,7 @@ class TestFalling(unittest.TestCase):
         self.assertIn(falling(net, [-1]), (["o"], ["w", "x"], ["x", "w"]))
         self.assertEqual(falling(net.without(["x"]), [-1]), ["o"])
         self.assertIsNone(falling(net.without(["z", "v"]), [1]))
-        self.assertEqual(sorted(falling(net=net.without(["z"]), direction=[1])), ["v", "w"])
+        self.assertEqual(sorted(falling(direction=[1], net=net.without(["z"]))), ["v", "w"])
 
     def test_is_falling(self):
         net = make(TRIANGLE)
